@@ -1,0 +1,1 @@
+"""Quickexact: when the quick test for two places of loops is exact."""
