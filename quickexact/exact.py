@@ -1,7 +1,7 @@
 """Where the quick test is exact: point [5]."""
 
 from quickexact.errors import NoCounter
-from quickexact.sums import greatest_sum, least_sum, mirrored, step
+from quickexact.sums import greatest_sum, least_sum, mirrored, step, width_of
 from quickexact.things import is_numbers
 
 
@@ -39,8 +39,7 @@ def linked_reach(coefficients, bounds, order):
 
 def is_linked(coefficients, bounds, order):
     """Whether the order is a chain."""
-    width = greatest_sum(coefficients, bounds) - least_sum(coefficients, bounds)
-    return linked_reach(coefficients, bounds, order) == width
+    return linked_reach(coefficients, bounds, order) == width_of(coefficients, bounds)
 
 
 def is_exact(coefficients, bounds):

@@ -41,6 +41,11 @@ def greatest_sum(coefficients, bounds):
     return sum([one * bound for one, bound in zip(coefficients, bounds) if one > 0])
 
 
+def width_of(coefficients, bounds):
+    """The greatest sum less the least one."""
+    return greatest_sum(coefficients, bounds) - least_sum(coefficients, bounds)
+
+
 def step(coefficients):
     """The greatest common divisor of the coefficients, 0 for ()."""
     common = 0

@@ -16,3 +16,8 @@ def with_tuples(value):
     if isinstance(value, (list, tuple)):
         return tuple([with_tuples(one) for one in value])
     return value
+
+
+def moved(values, place, by):
+    """The tuple of numbers, the one at this place changed by so much."""
+    return values[:place] + (values[place] + by,) + values[place + 1:]

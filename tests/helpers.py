@@ -4,8 +4,9 @@ import importlib
 import itertools
 import math
 import random
+import time
 
-FILES = ("errors", "sums", "exact")
+FILES = ("errors", "sums", "exact", "heaps", "holes", "unknown")
 
 
 def everything():
@@ -46,6 +47,56 @@ def walked_holes(coefficients, bounds):
     common = math.gcd(*coefficients)
     between = range(min(found), max(found) + 1, common if common else 1)
     return [number for number in between if number not in found]
+
+
+def walked_sums(coefficients, bounds):
+    """All sums, as a set, by adding up one counter after the other."""
+    found = {0}
+    for one, bound in zip(coefficients, bounds):
+        found = {total + one * counter for total in found for counter in range(bound + 1)}
+    return found
+
+
+def walked_heaps(coefficients, most):
+    """For each number from 0 to most whether it is one of the HEAPS, by adding up, number by number."""
+    sizes = sorted({abs(one) for one in coefficients})
+    found = [True] + [False] * most
+    for number in range(1, most + 1):
+        for size in sizes:
+            if size <= number and found[number - size]:
+                found[number] = True
+                break
+    return found
+
+
+def all_gaps_to(coefficients):
+    """A number above which there is no gap: two numbers without a common divisor leave none from their product on."""
+    return max([abs(one) for one in coefficients], default=1) ** 2
+
+
+def walked_gaps(coefficients):
+    """The gaps as the document tells them, by adding up."""
+    found = walked_heaps(coefficients, all_gaps_to(coefficients))
+    common = math.gcd(*coefficients)
+    return [number for number, is_heap in enumerate(found) if not is_heap and common and number % common == 0]
+
+
+def walked_parting(coefficients, bounds):
+    """The holes that part, as the document tells them."""
+    found = walked_sums(coefficients, bounds)
+    least, greatest = min(found), max(found)
+    common = math.gcd(*coefficients)
+    heaps = walked_heaps(coefficients, greatest - least)
+    return [number for number in range(least, greatest + 1, max(1, common))
+            if number not in found and heaps[number - least] and heaps[greatest - number]]
+
+
+def quickly(test, function, *told):
+    """What the function tells, which must not take more than a few seconds of work."""
+    begin = time.process_time()
+    answer = function(*told)
+    test.assertLess(time.process_time() - begin, 4, (function.__name__, told))
+    return answer
 
 
 def sizes_to(most):

@@ -35,22 +35,66 @@ INTERFACE = {
         "bound_needed": "coefficients bounds place",
         "idle_counters": "coefficients bounds",
     },
+    "heaps": {
+        "is_heap": "coefficients number",
+        "gaps": "coefficients",
+        "how_many_gaps": "coefficients",
+        "greatest_gap": "coefficients",
+        "least_in_class": "coefficients place number",
+        "is_halved": "coefficients",
+        "heap_counts": "coefficients number",
+        "is_heap_counts": "coefficients number thing",
+        "fewest_counts": "coefficients number",
+        "needless": "coefficients",
+        "bare_coefficients": "coefficients",
+        "same_heaps": "one other",
+    },
+    "holes": {
+        "holes": "coefficients bounds",
+        "how_many_holes": "coefficients bounds",
+        "is_hole": "coefficients bounds number",
+        "parting_holes": "coefficients bounds",
+        "is_settled": "coefficients bounds",
+        "holes_from_ends": "coefficients bounds",
+        "sure_width": "coefficients",
+        "holes_at_last": "coefficients",
+        "stays_settled": "coefficients bounds",
+        "unsettled_above": "coefficients bounds",
+        "is_unsettled_above": "coefficients bounds thing",
+        "settled_from": "coefficients",
+    },
+    "unknown": {
+        "why_never": "coefficients number",
+        "comes_at_all": "coefficients number",
+        "comes_from": "coefficients number",
+        "shown_by": "coefficients number",
+        "is_shown_by": "coefficients number thing",
+        "comes_with": "coefficients bounds place number",
+        "missed_for_ever": "coefficients low high",
+        "lasting_holes": "coefficients bounds",
+        "passing_holes": "coefficients bounds",
+        "least_bounds_for": "coefficients number most",
+    },
 }
 
 # Arguments with which each function is asked; thing stays a tuple.
 ASKED = (
-    {"coefficients": (), "bounds": (), "counters": (), "number": 0, "low": 0, "high": 0, "thing": ()},
+    {"coefficients": (), "bounds": (), "counters": (), "number": 0, "low": 0, "high": 0, "thing": (), "one": (),
+     "other": (), "most": 1},
     {"coefficients": (1,), "bounds": (1,), "counters": (1,), "number": 1, "low": 0, "high": 1, "thing": (0,),
-     "place": 0},
+     "place": 0, "one": (1,), "other": (-1, 4), "most": 3},
     {"coefficients": (2, -3), "bounds": (2, 1), "counters": (2, 0), "number": 1, "low": -3, "high": 2,
-     "thing": (2, 1), "place": 0},
+     "thing": (2, 1), "place": 0, "one": (2, -3), "other": (2, 3, 5), "most": 4},
     {"coefficients": (4, -2, 2), "bounds": (3, 1, 2), "counters": (1, 0, 2), "number": 6, "low": 1, "high": 9,
-     "thing": (1, 2, 0), "place": 2},
+     "thing": (1, 2, 0), "place": 2, "one": (4, -2, 2), "other": (3,), "most": 9},
     {"coefficients": (1, 3), "bounds": (1, 5), "counters": (1, 2), "number": 2, "low": 3, "high": 3,
-     "thing": (0, 1), "place": 1},
+     "thing": (0, 1), "place": 1, "one": (1, 3), "other": (), "most": 2},
+    {"coefficients": (3, 5), "bounds": (5, 1), "counters": (5, 0), "number": 15, "low": -2, "high": 10,
+     "thing": (5, 0), "place": 1, "one": (3, 5, 8), "other": (5, -3), "most": 6},
 )
 # Those whose answer is a list; in all others there is none, however deep.
-LISTS = ("sums", "sums_between")
+LISTS = ("sums", "sums_between", "gaps", "holes", "parting_holes", "missed_for_ever", "lasting_holes",
+         "passing_holes", "least_bounds_for")
 
 
 def functions():

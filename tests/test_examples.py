@@ -40,6 +40,59 @@ POINT_5 = r"""
 raises NoCounter(place=2)
 """
 
+POINT_6 = r"""
+>>> [is_heap((3, -5), number) for number in (0, 3, 4, 7, 8, 10 ** 40, -3)], is_heap((), 0), is_heap((), 5), is_heap((4, 6), 3)
+([True, True, False, False, True, True, False], True, False, False)
+>>> gaps((3, -5)), gaps((4, 6)), gaps((6, 10, 15))[-3:], gaps((2, 1)), gaps(()), how_many_gaps((6, 10, 15)), [greatest_gap(own) for own in ((3, -5), (4, 6), (2, 1), ())]
+([1, 2, 4, 7], [2], [19, 23, 29], [], [], 15, [7, 2, None, None])
+>>> [least_in_class((3, 5), 0, number) for number in (0, 1, 2, 7, -1)], least_in_class((3, 5), 1, 1), least_in_class((4, 6), 0, 2), least_in_class((4, 6), 0, 1)
+([0, 10, 5, 10, 5], 6, 6, None)
+>>> is_halved((3, 5)), is_halved((6, 10, 15)), is_halved((3, 5, 7)), is_halved((4, 6)), is_halved((1, 9)), is_halved(())
+(True, True, False, True, True, True)
+>>> heap_counts((3, 5), 7), is_heap_counts((3, -5), 11, (2, 1)), is_heap_counts((3, 5), 11, (2, 1, 0)), is_heap_counts((3, 5), 15, heap_counts((3, 5), 15)), heap_counts((), 0), [fewest_counts((1, 5, -8), number) for number in (0, 10, 15, 16, -1)], fewest_counts((4, 6), 9)
+(None, True, False, True, (), [0, 2, 3, 2, None], None)
+>>> needless((6, 10, 16, 15)), needless((2, -2)), needless((5,)), bare_coefficients((6, -10, 16, 15, 6)), bare_coefficients(())
+((2,), (0, 1), (), (6, 10, 15), ())
+>>> same_heaps((2, 3), (3, -2, 7)), same_heaps((4, 6), (2, 3)), same_heaps((), (1,))
+(True, False, False)
+>>> least_in_class((3, 5), 2, 1)
+raises NoCounter(place=2)
+"""
+
+POINT_7 = r"""
+>>> holes((2, 3), (1, 1)), holes((1, 3), (1, 5)), holes((2, -3), (1, 1)), holes((4, 2), (1, 1)), holes((), ()), how_many_holes((3, 5), (5, 1)), [is_hole((3, 5), (5, 1), number) for number in (0, 1, 10, 21)]
+([1, 4], [2, 5, 8, 11, 14], [-2, 1], [], [], 9, [False, True, True, False])
+>>> parting_holes((3, 5), (5, 1)), parting_holes((3, 5), (4, 1)), is_settled((3, 5), (5, 1)), is_settled((3, 5), (4, 1)), is_settled((1, 3), (1, 5)), is_settled((), ())
+([10], [], False, True, False, True)
+>>> holes_from_ends((3, 5), (5, 1)), holes_from_ends((3, 5), (1, 1)), holes_from_ends((2, -3), (1, 1)), holes_from_ends((1, 3), (1, 5))
+(((1, 2, 4, 7), (13, 16, 18, 19)), ((1, 2, 4, 7), (1, 4, 6, 7)), ((-2,), (1,)), ((), ()))
+>>> [sure_width(own) for own in ((3, 5), (1, -3), (2, 4), (4, 6), ())], [holes_at_last(own) for own in ((3, 5), (1, -3), (2, 4), (4, 6), ())]
+([19, 1, 0, 10, 0], [8, 0, 0, 2, 0])
+>>> stays_settled((3, 5), (4, 2)), stays_settled((3, 5), (2, 1)), unsettled_above((3, 5), (4, 2)), [is_unsettled_above((3, 5), (2, 1), own) for own in ((5, 1), (4, 1), (2, 3), (1, 9), [5, 1])], is_unsettled_above((3, 5), (2, 1), unsettled_above((3, 5), (2, 1)))
+(True, False, None, [True, False, True, False, False], True)
+>>> [settled_from(own) for own in ((3, 5), (2, -3), (1, 3), (3, 4, 5), (6, 4), ())]
+[4, 2, 2, 2, 2, 1]
+"""
+
+POINT_8 = r"""
+>>> comes_at_all((2, -3), 1), comes_at_all((3, 5), 7), comes_at_all((-3, -5), -8), comes_at_all((), 0), comes_at_all((6, 10, 15), 10 ** 40), comes_at_all((6, 10, 15), 29)
+(True, False, True, True, True, False)
+>>> [why_never((4, 6), number) for number in (7, -8, 2, 10)], why_never((-4, -6), 2), why_never((4, -6), -2), why_never((), 5)
+(['step', 'sign', 'gap', None], 'sign', None, 'step')
+>>> comes_from((2, -3), 1), comes_from((3, 5), 8), comes_from((3, 5), 7), comes_from((6, 10, 15), 30), comes_from((1, -1), 4000), comes_from((), 0)
+(2, 1, None, 2, 4000, 1)
+>>> shown_by((2, -3), 1), shown_by((6, 10, 15), 30), shown_by((3, 5), 7), is_shown_by((1, 1), 1, (0, 1)), is_shown_by((1, 2), 4, (2, 1)), is_shown_by((1, 2), 4, (0, 2)), is_shown_by((1, 2), 4, (4, 0))
+((2, 1), (0, 0, 2), None, True, True, True, False)
+>>> comes_with((3, 5), (1, 1), 0, 11), comes_with((3, 5), (1, 1), 1, 11), comes_with((3, 5), (1, 1), 1, 3), comes_with((2, -3), (1, 1), 1, -10 ** 30)
+(2, None, 1, 333333333333333333333333333334)
+>>> missed_for_ever((3, 5), -2, 10), missed_for_ever((2, -3), -9, 9), missed_for_ever((4, 6), 0, 10), lasting_holes((2, 3), (1, 1)), passing_holes((2, 3), (1, 1)), lasting_holes((2, -3), (1, 1)), passing_holes((2, -3), (1, 1))
+([-2, -1, 1, 2, 4, 7], [], [2], [1], [4], [], [-2, 1])
+>>> least_bounds_for((2, 3), 12, 9), least_bounds_for((2, 3), 12, 4), least_bounds_for((1, 2), 3, 9), least_bounds_for((3, 5), 7, 9), least_bounds_for((), 0, 1)
+([(1, 4), (3, 2), (6, 1)], [(1, 4), (3, 2)], [(1, 1)], [], [()])
+>>> comes_with((3, 5), (1, 1), 2, 0)
+raises NoCounter(place=2)
+"""
+
 
 class Examples(unittest.TestCase):
     def check(self, text, many):
@@ -56,6 +109,15 @@ class Examples(unittest.TestCase):
 
     def test_point_5(self):
         self.check(POINT_5, 8)
+
+    def test_point_6(self):
+        self.check(POINT_6, 8)
+
+    def test_point_7(self):
+        self.check(POINT_7, 6)
+
+    def test_point_8(self):
+        self.check(POINT_8, 8)
 
     def test_readme(self):
         path = os.path.join(os.path.dirname(os.path.dirname(os.path.abspath(__file__))), "README.md")
