@@ -4,9 +4,10 @@ import importlib
 import itertools
 import math
 import random
+import re
 import time
 
-FILES = ("errors", "sums", "exact", "heaps", "holes", "unknown")
+FILES = ("errors", "sums", "exact", "heaps", "holes", "unknown", "nests", "signs", "several")
 
 
 def everything():
@@ -54,6 +55,18 @@ def walked_sums(coefficients, bounds):
     found = {0}
     for one, bound in zip(coefficients, bounds):
         found = {total + one * counter for total in found for counter in range(bound + 1)}
+    return found
+
+
+def walked_counts(coefficients, bounds):
+    """For each sum how many COUNTERS it has, as a dict, by adding up one counter after the other."""
+    found = {0: 1}
+    for one, bound in zip(coefficients, bounds):
+        joined = {}
+        for total, many in found.items():
+            for counter in range(bound + 1):
+                joined[total + one * counter] = joined.get(total + one * counter, 0) + many
+        found = joined
     return found
 
 
@@ -134,6 +147,81 @@ def small_cases():
             yield tuple(factor * one for one in coefficients), bounds
 
 
+def walked_rounds(loops):
+    """All ROUNDS."""
+    return list(itertools.product(*[range(bound + 1) for _, bound in loops]))
+
+
+def walked_cell(place, counters):
+    """The cell of a PLACE in a ROUND."""
+    cell = place[1]
+    for number, counter in zip(place[0], counters):
+        cell += number * counter
+    return cell
+
+
+def walked_pairs(loops, one, other):
+    """All pairs of a ROUND of one and a ROUND of other in which both PLACES are the same cell."""
+    rounds = walked_rounds(loops)
+    cells = [(mates, walked_cell(other, mates)) for mates in rounds]
+    return [(counters, mates) for counters in rounds for mates, cell in cells if walked_cell(one, counters) == cell]
+
+
+def some_loops(bounds):
+    """LOOPS with these bounds."""
+    return tuple(zip(("i", "loop", "abcdefgh"), bounds))
+
+
+def drawn_places(many_cases, many, bound, most, seed):
+    """LOOPS, so many, with two PLACES, from a told seed; many of the numbers are 0 or alike."""
+    source = random.Random(seed)
+    for _ in range(many_cases):
+        loops = some_loops([source.randint(1, bound) for _ in range(many)])
+        one = tuple(source.choice((0, source.randint(-most, most))) for _ in range(many))
+        other = tuple(source.choice((own, source.randint(-most, most))) for own in one)
+        yield loops, (one, source.randint(-most, most)), (other, source.randint(-most, most))
+
+
+def nest_cases():
+    """Many LOOPS, no loop ahead of all, with two PLACES of them."""
+    for numbers in ((0, 0), (4, 5), (-3, -3)):
+        yield (), ((), numbers[0]), ((), numbers[1])
+    for bound in (1, 2, 3):
+        for own, mate, number in itertools.product(range(-3, 4), range(-3, 4), range(-4, 5)):
+            yield some_loops((bound,)), ((own,), 0), ((mate,), number)
+    yield from drawn_places(250, 2, 3, 4, 301)
+    yield from drawn_places(60, 3, 2, 4, 302)
+    yield from drawn_places(20, 3, 3, 5, 303)
+    for loops, one, other in drawn_places(40, 2, 4, 3, 304):
+        # Great numbers alone; and equal PLACES.
+        more = 10 ** 40 - 9
+        yield loops, (one[0], one[1] + more), (other[0], other[1] + more)
+        yield loops, one, one
+
+
+def row_form(many):
+    """The form of the text of a tuple of so many numbers."""
+    number = r"-?[0-9]+"
+    if many == 1:
+        return rf"\({number},\)"
+    return r"\(" + ", ".join([number] * many) + r"\)"
+
+
+def has_form(thing, form):
+    """Whether the text of the value has this form: it parts True from 1, and a list from a tuple."""
+    return re.fullmatch(form, repr(thing)) is not None
+
+
+def place_form(many):
+    """The form of the text of a PLACE of so many loops."""
+    return r"\(" + row_form(many) + r", -?[0-9]+\)"
+
+
+def pair_form(many):
+    """The form of the text of a pair of two tuples of so many numbers."""
+    return r"\(" + row_form(many) + ", " + row_form(many) + r"\)"
+
+
 def odd_things():
     """Values of all kinds that a thing may be, none of them a tuple of numbers from 0 on."""
     from quickexact.errors import NoCounter, Unfit
@@ -151,3 +239,18 @@ def odd_things():
         ((),), ([],), (nested,), nested, lists, (lists, lists), Unfit(), NoCounter(1), (NoCounter(1),),
         (Unfit(), Unfit()),
     ]
+
+
+def odd_nest_things():
+    """More of these: what looks nearly like LOOPS, a PLACE, two ROUNDS, a SPOT or SIGNS, of whatever many loops."""
+    found = odd_things()
+    found += [(("i", "5"),), (("i", True),), (("i", 0),), (("i", -1),), (("i", None),), ((5, "i"),), (("i",),), (("i", 1, 1),),
+              (["i", 1],), [("i", 1)], ("i", 1), (("", 1),), (("I", 1),), (("i j", 1),), (("i1", 1),), (("i\n", 1),),
+              (("abcdefghi", 1),), (("\u00e4", 1),), (("i", 1), ("i", 1)), (("i", 1), ("j", 1), ("i", 2)),
+              (("a", 1), ("b", 1), ("c", 1), ("d", 1)), ((b"i", 1),), ((("i",), 1),), (("i", 1), None), (("i", 1), ())]
+    found += [((), True), ((), None), ((), "0"), ((), ()), ([], 0), ((), 0, 0), ((True,), 0), ((1,), False), ((1, True), 0),
+              (("1",), 0), ((1,), (0,)), ([1], 0), ((1, 2, 3, 4), 0), (1, (1,)), ((None,), 0), (((1,),), 0)]
+    found += [((), ()), ((0,),), ((0,), (0,), (0,)), ((0,), [0]), ([0], (0,)), [(0,), (0,)], ((0,), (True,)),
+              ((False,), (0,)), ((0,), None), ((0,), 0), ((-1,), (0,)), ((0,), ("0",)), ((0, 0), (0,)), (((0,), (0,)),)]
+    found += ["<=x", "= ", "<=>=", "<<<<", "==\n", ("=",), ["="], ("=", "="), b"=", "=" * 13, " ", "lt", 61]
+    return found

@@ -75,9 +75,52 @@ INTERFACE = {
         "passing_holes": "coefficients bounds",
         "least_bounds_for": "coefficients number most",
     },
+    "nests": {
+        "is_loops": "thing",
+        "is_place": "loops thing",
+        "is_round": "loops thing",
+        "how_many_rounds": "loops",
+        "cell_at": "place counters",
+        "equation_of": "loops one other",
+        "may_touch": "loops one other",
+        "touch": "loops one other",
+        "touching": "loops one other",
+        "is_touching": "loops one other thing",
+        "how_many_touchings": "loops one other",
+        "cells_of": "loops place",
+        "touches_itself": "loops place",
+    },
+    "signs": {
+        "is_signs": "loops thing",
+        "signs_between": "counters others",
+        "turned_signs": "signs",
+        "lets_with": "loops one other signs",
+        "signs_at_all": "one other",
+        "touching_with": "loops one other signs",
+        "touch_with": "loops one other signs",
+        "is_touching_with": "loops one other signs thing",
+        "all_signs": "loops one other",
+        "missed_signs": "loops one other",
+        "carried_by": "loops one other",
+        "distances": "loops one other",
+    },
+    "several": {
+        "is_spot": "loops thing",
+        "cells_at": "spot counters",
+        "tests_each": "loops one other",
+        "shared_cells": "loops one other",
+        "touch_all": "loops one other",
+        "touching_all": "loops one other",
+        "is_touching_all": "loops one other thing",
+        "how_many_together": "loops one other",
+        "parted_by": "loops one other",
+        "least_parting": "loops one other",
+        "flattened": "loops one other",
+        "is_flattened": "loops one other thing",
+    },
 }
 
-# Arguments with which each function is asked; thing stays a tuple.
+# Arguments with which each function of the first files is asked; thing stays a tuple.
 ASKED = (
     {"coefficients": (), "bounds": (), "counters": (), "number": 0, "low": 0, "high": 0, "thing": (), "one": (),
      "other": (), "most": 1},
@@ -92,32 +135,57 @@ ASKED = (
     {"coefficients": (3, 5), "bounds": (5, 1), "counters": (5, 0), "number": 15, "low": -2, "high": 10,
      "thing": (5, 0), "place": 1, "one": (3, 5, 8), "other": (5, -3), "most": 6},
 )
+# Those with PLACES.
+PLACES = (
+    {"loops": (), "one": ((), 4), "other": ((), 4), "place": ((), 4), "counters": (), "others": (), "signs": "",
+     "thing": ((), ())},
+    {"loops": (("i", 4),), "one": ((2,), 0), "other": ((3,), 1), "place": ((2,), 0), "counters": (2,), "others": (1,),
+     "signs": ">", "thing": ((2,), (1,))},
+    {"loops": (("j", 5), ("i", 3)), "one": ((2, 0), 0), "other": ((0, 3), 1), "place": ((0, 3), 1), "counters": (2, 0),
+     "others": (4, 1), "signs": "<<", "thing": ((2, 0), (4, 1))},
+    {"loops": (("i", 1), ("j", 1)), "one": ((2, 0), 0), "other": ((0, 3), 1), "place": ((3, 1), 0), "counters": (1, 1),
+     "others": (0, 1), "signs": "==", "thing": ((0, 0), (0, 0))},
+    {"loops": (("a", 2), ("b", 1), ("c", 2)), "one": ((1, -1, 2), 3), "other": ((1, -1, 2), 3), "place": ((1, -1, 2), 3),
+     "counters": (0, 0, 1), "others": (2, 0, 0), "signs": "<=>", "thing": ((0, 0, 1), (2, 0, 0))},
+)
+# Those with SPOTS.
+SPOTS = (
+    {"loops": (), "one": (), "other": (), "spot": (), "counters": (), "thing": (((), 7), ((), 7))},
+    {"loops": (("i", 1),), "one": (((2,), 0), ((0,), 3)), "other": (((1,), 1), ((3,), 0)), "spot": (((2,), 0), ((0,), 3)),
+     "counters": (1,), "thing": ((1,), (1,))},
+    {"loops": (("i", 3), ("j", 3)), "one": (((1, 0), 0), ((0, 1), 0)), "other": (((0, 1), 0), ((1, 0), 1)),
+     "spot": (((0, 1), 0), ((1, 0), 1)), "counters": (2, 3), "thing": (((10, 1), 0), ((1, 10), 1))},
+    {"loops": (("i", 3), ("j", 2)), "one": (((1, 0), 0), ((1, 0), 0)), "other": (((0, 1), 0), ((0, 1), 1)),
+     "spot": (((0, 1), 0),), "counters": (2, 0), "thing": (((0, 1), 0), ((1, 0), 1))},
+    {"loops": (("i", 2), ("j", 1)), "one": (((1, 1), 0),) * 4, "other": (((1, 1), 1),) * 4, "spot": (((1, 1), 0),) * 4,
+     "counters": (0, 1), "thing": ((1, 0), (0, 0))},
+)
+ASKED_OF = {"nests": PLACES, "signs": PLACES, "several": SPOTS}
+
 # Those whose answer is a list; in all others there is none, however deep.
 LISTS = ("sums", "sums_between", "gaps", "holes", "parting_holes", "missed_for_ever", "lasting_holes",
-         "passing_holes", "least_bounds_for")
-
-
-def functions():
-    for file, rows in INTERFACE.items():
-        module = importlib.import_module("quickexact." + file)
-        for name, words in rows.items():
-            yield getattr(module, name), words.split()
+         "passing_holes", "least_bounds_for", "cells_of", "signs_at_all", "all_signs", "missed_signs", "distances",
+         "shared_cells")
 
 
 def calls():
     """Each function with each of the arguments, by name, that it can be asked with."""
-    for function, words in functions():
-        for asked in ASKED:
-            if all(word in asked for word in words):
-                yield function, {word: asked[word] for word in words}
+    for file, rows in INTERFACE.items():
+        module = importlib.import_module("quickexact." + file)
+        for name, words in rows.items():
+            for asked in ASKED_OF.get(file, ASKED):
+                if all(word in asked for word in words.split()):
+                    yield getattr(module, name), {word: asked[word] for word in words.split()}
+
+
+def with_lists(value):
+    """The same value with a list in the place of each tuple, at any depth."""
+    return [with_lists(one) for one in value] if isinstance(value, tuple) else value
 
 
 def as_lists(told):
     """The same arguments with lists for tuples, but for thing."""
-    changed = {}
-    for word, value in told.items():
-        changed[word] = list(value) if isinstance(value, tuple) and word != "thing" else value
-    return changed
+    return {word: value if word == "thing" else with_lists(value) for word, value in told.items()}
 
 
 def has_list(value):

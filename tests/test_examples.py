@@ -93,16 +93,76 @@ POINT_8 = r"""
 raises NoCounter(place=2)
 """
 
+POINT_9 = r"""
+>>> loops, one, other = (("i", 5), ("j", 3)), ((2, 0), 0), ((0, 3), 1)
+>>> equation_of(loops, one, other), may_touch(loops, one, other), touch(loops, one, other), how_many_touchings(loops, one, other), is_touching(loops, one, other, touching(loops, one, other))
+(((2, -3), (5, 3), 1), True, True, 48, True)
+>>> is_touching(loops, one, other, ((2, 0), (4, 1))), is_touching(loops, one, other, ((2, 0), (4, 0))), is_touching(loops, one, other, ((2, 4), (0, 1))), cell_at(one, (3, 1)), how_many_rounds(loops)
+(True, False, False, 6, 24)
+>>> small = (("i", 1), ("j", 1))
+>>> may_touch(small, one, other), touch(small, one, other), touching(small, one, other), how_many_touchings(small, one, other)
+(True, False, None, 0)
+>>> cells_of(loops, one), cells_of(loops, ((0, 0), 7)), [touches_itself(loops, place) for place in (one, ((4, 1), 7), ((3, 1), 0))], equation_of(loops, ((4, 1), 7), ((4, 1), 5)), how_many_touchings(loops, ((4, 1), 7), ((4, 1), 5))
+([0, 2, 4, 6, 8, 10], [7], [True, False, True], ((4, 1, -4, -1), (5, 3, 5, 3), -2), 22)
+>>> touch((), ((), 4), ((), 4)), touching((), ((), 4), ((), 4)), how_many_touchings((), ((), 4), ((), 4)), touch((), ((), 4), ((), 5)), touches_itself((), ((), 4)), cells_of((), ((), 4))
+(True, ((), ()), 1, False, False, [4])
+>>> is_loops(loops), is_loops(()), is_loops((("i", 5), ("i", 3))), is_loops((("i", 0),)), is_place(loops, one), is_place(loops, ((2,), 0)), is_place(loops, ((2, 0), True)), is_round(loops, (5, 3)), is_round(loops, (5, 4))
+(True, True, False, False, True, False, False, True, False)
+"""
+
+POINT_10 = r"""
+>>> line, pair = (("i", 4),), (("i", 1), ("j", 1))
+>>> one, other = ((2,), 0), ((3,), 1)
+>>> all_signs(line, one, other), touching_with(line, one, other, ">"), touch_with(line, one, other, "="), [lets_with(line, one, other, signs) for signs in "<=>"], distances(line, one, other), carried_by(line, one, other), signs_at_all(one, other)
+(['>'], ((2,), (1,)), False, [False, False, True], [(-1,)], ('i',), ['>'])
+>>> near, far = ((1, 1), 0), ((1, 1), 1)
+>>> all_signs(pair, near, far), signs_at_all(near, far), distances(pair, near, far), carried_by(pair, near, far), all_signs((("i", 2), ("j", 2)), near, far), missed_signs(pair, near, far)
+(['=>', '>='], ['<>', '=>', '><', '>='], [(-1, 0), (0, -1)], ('i', 'j'), ['<>', '=>', '><', '>='], [])
+>>> missed_signs(pair, ((2, 0), 0), ((0, 3), 1)), lets_with(pair, ((2, 0), 0), ((0, 3), 1), "=="), lets_with(pair, ((2, 0), 0), ((0, 3), 1), "=>"), signs_at_all(((2,), 0), ((2,), 1)), signs_at_all(((1,), 0), ((2,), 0))
+(['=='], True, False, [], ['=', '>'])
+>>> lets_with((("i", 1),), ((2,), 0), ((3,), -2), "<"), lets_with((("i", 2),), ((2,), 0), ((3,), -2), "<"), lets_with((("i", 2),), ((2,), 0), ((3,), -4), "<"), touch_with((("i", 2),), ((2,), 0), ((3,), -4), "<"), distances((("i", 2),), ((2,), 0), ((3,), -4))
+(False, False, True, True, [(1,)])
+>>> is_touching_with(pair, near, far, "=>", ((1, 1), (1, 0))), is_touching_with(pair, near, far, ">=", ((1, 1), (1, 0))), is_touching_with(pair, near, far, "=>", ((1, 1), [1, 0])), signs_between((0, 3, 2), (1, 3, 0)), turned_signs("<=>"), is_signs(pair, "<="), is_signs(pair, "<"), is_signs(pair, "<x")
+(True, False, False, '<=>', '>=<', True, False, False)
+>>> all_signs((), ((), 4), ((), 4)), all_signs((), ((), 4), ((), 5)), distances((), ((), 4), ((), 4)), carried_by((), ((), 4), ((), 4)), signs_at_all(((), 4), ((), 4))
+([''], [], [()], (), [''])
+"""
+
+POINT_11 = r"""
+>>> loops, grid, turned = (("i", 3), ("j", 3)), (((1, 0), 0), ((0, 1), 0)), (((0, 1), 0), ((1, 0), 1))
+>>> touch_all(loops, grid, turned), how_many_together(loops, grid, turned), shared_cells(loops, grid, turned)[:2], tests_each(loops, grid, turned), parted_by(loops, grid, turned), least_parting(loops, grid, turned), cells_at(turned, (2, 3))
+(True, 12, [(0, 1), (0, 2)], (True, True), (), None, (3, 3))
+>>> is_touching_all(loops, grid, turned, ((0, 1), (0, 0))), is_touching_all(loops, grid, turned, ((0, 1), (1, 0))), is_touching_all(loops, grid, turned, touching_all(loops, grid, turned))
+(True, False, True)
+>>> same, next_one = (((1, 0), 0), ((1, 0), 0)), (((0, 1), 0), ((0, 1), 1))
+>>> touch_all(loops, same, next_one), touching_all(loops, same, next_one), tests_each(loops, same, next_one), parted_by(loops, same, next_one), least_parting(loops, same, next_one)
+(False, None, (True, True), (), (0, 1))
+>>> even, odd = (((0, 1), 0), ((2, 0), 0)), (((0, 1), 0), ((0, 2), 1))
+>>> tests_each(loops, even, odd), parted_by(loops, even, odd), least_parting(loops, even, odd), shared_cells(loops, even, odd)
+((True, False), (1,), (1,), [])
+>>> is_flattened(loops, grid, turned, (((10, 1), 0), ((1, 10), 1))), is_flattened(loops, grid, turned, (((4, 1), 0), ((1, 4), 1))), is_flattened(loops, grid, turned, flattened(loops, grid, turned)), is_flattened(loops, same, next_one, flattened(loops, same, next_one))
+(True, False, True, True)
+>>> touch_all(loops, (), ()), how_many_together(loops, (), ()), shared_cells(loops, (), ()), tests_each(loops, (), ()), is_spot(loops, grid), is_spot(loops, ()), is_spot(loops, (((1,), 0),))
+(True, 256, [()], (), True, True, False)
+>>> touch_all(loops, grid, ())
+raises Unfit()
+"""
+
 
 class Examples(unittest.TestCase):
     def check(self, text, many):
+        """Each row that is asked is one, with what is told behind it; those with none behind them give names values."""
         names = helpers.everything()
         rows = text.strip().split("\n")
-        self.assertEqual(len(rows), 2 * many)
-        for asked, told in zip(rows[::2], rows[1::2]):
-            with self.subTest(asked=asked):
-                self.assertTrue(asked.startswith(">>> "))
-                self.assertEqual(helpers.outcome(asked[4:], names), told)
+        asked = [at for at, row in enumerate(rows) if row.startswith(">>> ")]
+        self.assertEqual(len(asked), many)
+        for at, following in zip(asked, asked[1:] + [len(rows)]):
+            with self.subTest(asked=rows[at]):
+                told = rows[at + 1:following]
+                if told == []:
+                    exec(rows[at][4:], names)
+                else:
+                    self.assertEqual([helpers.outcome(rows[at][4:], names)], told)
 
     def test_point_4(self):
         self.check(POINT_4, 6)
@@ -118,6 +178,15 @@ class Examples(unittest.TestCase):
 
     def test_point_8(self):
         self.check(POINT_8, 8)
+
+    def test_point_9(self):
+        self.check(POINT_9, 8)
+
+    def test_point_10(self):
+        self.check(POINT_10, 9)
+
+    def test_point_11(self):
+        self.check(POINT_11, 10)
 
     def test_readme(self):
         path = os.path.join(os.path.dirname(os.path.dirname(os.path.abspath(__file__))), "README.md")

@@ -18,7 +18,8 @@ OverflowError RuntimeError NotImplementedError""".split()
 METHODS = """append clear copy count endswith extend find get index insert isalnum isalpha isdigit islower isspace
 isupper items join keys ljust lower lstrip partition pop remove replace reverse rfind rjust rpartition rsplit rstrip
 setdefault split splitlines startswith strip update upper values zfill bit_length add discard __init__""".split()
-FROM_OUTSIDE = {"math": ("gcd", "lcm", "isqrt", "comb"), "heapq": ("heappush", "heappop")}
+FROM_OUTSIDE = {"math": ("gcd", "lcm", "isqrt", "comb"), "heapq": ("heappush", "heappop"),
+                "itertools": ("combinations",)}
 
 
 def files():
