@@ -7,7 +7,8 @@ import random
 import re
 import time
 
-FILES = ("errors", "sums", "exact", "heaps", "holes", "unknown", "nests", "signs", "several")
+FILES = ("errors", "sums", "exact", "heaps", "holes", "unknown", "nests", "signs", "several", "order",
+         "loopbook", "texts", "desk")
 
 
 def everything():

@@ -118,6 +118,30 @@ INTERFACE = {
         "flattened": "loops one other",
         "is_flattened": "loops one other thing",
     },
+    "order": {
+        "says": "coefficients bounds number test",
+        "verdict": "coefficients bounds number",
+        "first_telling": "coefficients bounds number",
+        "numbers_told": "coefficients bounds test",
+        "how_many_told": "coefficients bounds",
+        "are_enough": "coefficients bounds tests",
+        "fewest_tests": "coefficients bounds",
+        "false_alarms": "coefficients bounds tests",
+    },
+    "texts": {
+        "terms_text": "terms number",
+        "terms_in": "text",
+        "equation_text": "names coefficients number",
+        "equation_in": "text",
+        "loops_text": "loops",
+        "loops_in": "text",
+        "counters_text": "counters",
+        "counters_in": "text",
+    },
+    "desk": {
+        "is_request": "thing",
+        "replies": "text",
+    },
 }
 
 # Arguments with which each function of the first files is asked; thing stays a tuple.
@@ -160,12 +184,37 @@ SPOTS = (
     {"loops": (("i", 2), ("j", 1)), "one": (((1, 1), 0),) * 4, "other": (((1, 1), 1),) * 4, "spot": (((1, 1), 0),) * 4,
      "counters": (0, 1), "thing": ((1, 0), (0, 0))},
 )
-ASKED_OF = {"nests": PLACES, "signs": PLACES, "several": SPOTS}
+# Those with tests.
+TESTS = (
+    {"coefficients": (), "bounds": (), "number": 0, "test": "chain", "tests": ()},
+    {"coefficients": (3, 5), "bounds": (5, 1), "number": 10, "test": "walk", "tests": ("heaps", "chain")},
+    {"coefficients": (3, -5), "bounds": (4, 2), "number": 2, "test": "settled", "tests": ("settled", "heaps", "settled")},
+    {"coefficients": (2, 4), "bounds": (1, 1), "number": 3, "test": "divisor", "tests": ("divisor", "chain")},
+    {"coefficients": (1, 3), "bounds": (1, 5), "number": -1, "test": "sort", "tests": ("walk", "sort")},
+)
+# Those with texts.
+TEXTS = (
+    {"terms": (), "number": 0, "text": "-", "names": (), "coefficients": (), "loops": (), "counters": ()},
+    {"terms": (("x", 2), ("y", -1)), "number": 7, "text": "2x-y+7", "names": ("y", "x"), "coefficients": (2, -1),
+     "loops": (("i", 9), ("j", 4)), "counters": (0, 12, 3)},
+    {"terms": (("loop", -1),), "number": -7, "text": "b-a=-4", "names": ("loop",), "coefficients": (-1,),
+     "loops": (("z", 10 ** 40),), "counters": (5,)},
+    {"text": "j:4, i:9, k:1, a:2"},
+    {"text": "0 12 3"},
+    {"text": "7"},
+    {"text": ""},
+)
+REQUESTS = (
+    {"thing": "bound i 20", "text": "loop i 1\nplace p 2i\nplace q 3\nplaces\ngroups\nundo\nalarms\nfrom i p q"},
+    {"thing": ("bound i 20",), "text": "loops\nlook"},
+    {"thing": "", "text": ""},
+)
+ASKED_OF = {"nests": PLACES, "signs": PLACES, "several": SPOTS, "order": TESTS, "texts": TEXTS, "desk": REQUESTS}
 
 # Those whose answer is a list; in all others there is none, however deep.
 LISTS = ("sums", "sums_between", "gaps", "holes", "parting_holes", "missed_for_ever", "lasting_holes",
          "passing_holes", "least_bounds_for", "cells_of", "signs_at_all", "all_signs", "missed_signs", "distances",
-         "shared_cells")
+         "shared_cells", "numbers_told", "false_alarms", "replies")
 
 
 def calls():
@@ -186,6 +235,21 @@ def with_lists(value):
 def as_lists(told):
     """The same arguments with lists for tuples, but for thing."""
     return {word: value if word == "thing" else with_lists(value) for word, value in told.items()}
+
+
+def outcome(function, *told, **named):
+    """The text of what the function tells, which parts lists from tuples, and True from 1; or what it raises."""
+    try:
+        return repr(function(*told, **named))
+    except (ValueError, LookupError) as error:
+        return f"raises {error.__class__.__name__} {vars(error)!r}"
+
+
+def answers():
+    """Each call that raises nothing."""
+    for function, told in calls():
+        if not outcome(function, **told).startswith("raises"):
+            yield function, told
 
 
 def has_list(value):
@@ -211,14 +275,14 @@ class Calls(unittest.TestCase):
     def test_lists_names_and_again(self):
         for function, told in calls():
             with self.subTest(function=function.__name__, told=told):
-                first = function(*told.values())
-                # The text parts lists from tuples, and True from 1.
-                for answer in (function(**told), function(*as_lists(told).values()), function(**as_lists(told)),
-                               function(*told.values())):
-                    self.assertEqual(repr(answer), repr(first))
+                first = outcome(function, *told.values())
+                self.assertEqual(outcome(function, **told), first)
+                self.assertEqual(outcome(function, *as_lists(told).values()), first)
+                self.assertEqual(outcome(function, **as_lists(told)), first)
+                self.assertEqual(outcome(function, *told.values()), first)
 
     def test_tuples_are_returned_but_for_told_lists(self):
-        for function, told in calls():
+        for function, told in answers():
             with self.subTest(function=function.__name__, told=told):
                 answer = function(**as_lists(told))
                 if function.__name__ in LISTS:
@@ -232,17 +296,21 @@ class Calls(unittest.TestCase):
             with self.subTest(function=function.__name__, told=told):
                 given = as_lists(told)
                 before = copy.deepcopy(given)
-                function(**given)
+                outcome(function, **given)
                 self.assertEqual(repr(given), repr(before))
 
     def test_returned_lists_are_new(self):
-        for function, told in calls():
+        for function, told in answers():
             if function.__name__ in LISTS:
                 first = function(**told)
                 expected = list(first)
                 first.append("more")
                 self.assertEqual(function(**told), expected)
                 self.assertIsNot(function(**told), function(**told))
+
+    def test_each_function_answers_here(self):
+        found = {function.__name__ for function, _ in answers()}
+        self.assertEqual(found, {name for rows in INTERFACE.values() for name in rows})
 
     def test_lists_that_are_passed_do_not_come_back(self):
         bounds = [1, 2]

@@ -148,6 +148,82 @@ POINT_11 = r"""
 raises Unfit()
 """
 
+POINT_12 = r"""
+>>> [says((3, 5), (5, 1), 1, test) for test in ("divisor", "range", "chain", "heaps", "settled", "walk")], [says((3, 5), (5, 1), number, "chain") for number in (0, 3, 19, 20)], says((3, 5), (4, 2), 10, "settled"), says((3, 5), (5, 1), 10, "settled")
+([None, None, 'no', 'no', None, 'no'], ['yes', None, 'no', 'yes'], 'yes', None)
+>>> verdict((3, 5), (5, 1), 10), verdict((3, 5), (4, 2), 10), verdict((3, 5), (4, 2), 18), verdict((2, 4), (9, 9), 3), verdict((1, 3), (2, 5), 18), verdict((1, -3), (2, 5), -9), first_telling((), (), 0)
+(('walk', 'no'), ('settled', 'yes'), ('heaps', 'no'), ('divisor', 'no'), ('range', 'no'), ('chain', 'yes'), 'chain')
+>>> how_many_told((3, 5), (5, 1)), how_many_told((3, 5), (4, 2)), how_many_told((2, 4), (1, 1)), numbers_told((3, 5), (5, 1), "heaps"), numbers_told((3, 5), (5, 1), "walk"), numbers_told((3, 5), (5, 1), "range")
+((0, 0, 4, 6, 0, 11), (0, 0, 4, 6, 13, 0), (3, 0, 4, 0, 0, 0), [2, 4, 7, 13, 16, 18], [3, 5, 6, 8, 9, 10, 11, 12, 14, 15, 17], [])
+>>> are_enough((3, 5), (4, 2), ("settled", "heaps")), are_enough((3, 5), (5, 1), ("chain", "heaps", "settled")), fewest_tests((3, 5), (4, 2)), fewest_tests((3, 5), (5, 1)), fewest_tests((1, 3), (2, 5)), fewest_tests((2, 4), (1, 1))
+(True, False, ('heaps', 'settled'), None, ('chain',), ('chain', 'divisor'))
+>>> false_alarms((1, 3), (1, 5), ("divisor", "range")), false_alarms((1, 3), (1, 5), ("chain",)), false_alarms((1, 3), (1, 5), ("walk",)), false_alarms((2, 4), (1, 1), ())
+([2, 5, 8, 11, 14], [5, 8, 11], [], [1, 3, 5])
+>>> says((1, 3), (1, 5), 2, "sort")
+raises Unfit()
+"""
+
+POINT_13 = r"""
+>>> book = Loopbook()
+>>> book.add_loop("i", 1), book.add_loop("j", 1), book.add_place("p", (("i", 2),), 0), book.add_place("q", (("j", 3),), 1), book.add_place("r", (("i", 2), ("j", -1)), 5)
+(None, None, None, None, None)
+>>> book.loops(), book.places(), book.place_of("q"), len(book)
+((('i', 1), ('j', 1)), (('p', (('i', 2),), 0), ('q', (('j', 3),), 1), ('r', (('i', 2), ('j', -1)), 5)), ((0, 3), 1), 5)
+>>> book.touch("p", "q"), book.test("p", "q"), book.touch("q", "r"), book.touch("p", "p"), book.touch("r", "r"), book.touching_pairs(), book.alarms()
+(False, True, True, True, False, (('q', 'r'),), (('p', 'q'),))
+>>> book.groups(), book.most_apart(), book.touch_from("i", "p", "q"), book.touch_from("j", "p", "q"), book.touch_from("j", "p", "r"), book.bound_till("i")
+((('p',), ('q', 'r')), ('p', 'q'), 2, None, 3, None)
+>>> book.set_bound("i", 2), book.touching_pairs(), book.groups(), book.most_apart(), book.undo(), book.drop_place("q"), book.bound_till("i"), book.bound_till("j")
+(None, (('p', 'q'), ('p', 'r'), ('q', 'r')), (('p', 'q', 'r'),), ('p',), None, None, 1, 2)
+>>> mate = book.twin()
+>>> mate == book, mate.undo(), mate == book, len(mate), len(book), book == Loopbook()
+(True, None, False, 5, 6, False)
+>>> book.add_loop("i", 3)
+raises Known(name='i')
+>>> book.drop_loop("j")
+raises Used(name='j')
+>>> book.add_place("s", (("i", 1), ("k", 2)), 0)
+raises NoLoop(name='k')
+>>> book.touch("p", "q")
+raises NoPlace(name='q')
+"""
+
+POINT_14 = r"""
+>>> terms_text((("x", 2), ("y", -1)), 7), terms_text((), 0), terms_text((), -7), terms_text((("i", 1),), 0), terms_text((("i", -1), ("j", 12)), -3)
+('2x-y+7', '0', '-7', 'i', '-i+12j-3')
+>>> terms_in("2x-y+7"), terms_in("0"), terms_in("-7"), terms_in("i"), terms_in("-i+12j-3")
+(((('x', 2), ('y', -1)), 7), ((), 0), ((), -7), ((('i', 1),), 0), ((('i', -1), ('j', 12)), -3))
+>>> equation_text(("x", "y", "z"), (2, 3, -1), 5), equation_text((), (), 5), equation_text(("b", "a"), (-1, 1), -4)
+('2x+3y-z=5', '0=5', '-b+a=-4')
+>>> equation_in("2x+3y-z=5"), equation_in("0=-5"), equation_in("-b+a=0")
+((('x', 'y', 'z'), (2, 3, -1), 5), ((), (), -5), (('b', 'a'), (-1, 1), 0))
+>>> loops_text((("i", 9), ("j", 4))), loops_text(()), loops_in("j:4, i:9"), loops_in("-")
+('i:9, j:4', '-', (('j', 4), ('i', 9)), ())
+>>> counters_text((0, 12, 3)), counters_text(()), counters_in("0 12 3"), counters_in("-")
+('0 12 3', '-', (0, 12, 3), ())
+>>> terms_in("y+2x")
+raises BadText()
+>>> terms_in("1x")
+raises BadText()
+>>> equation_in("x+x=2")
+raises BadText()
+>>> loops_in("i:0")
+raises BadText()
+"""
+
+POINT_15 = r"""
+>>> replies("loop i 1\nloop j 1\nplace p 2i\nplace q 3j+1\nplace r 2i-j+5\nloops\nplaces\npairs\nalarms\ngroups\napart")
+['done', 'done', 'done', 'done', 'done', 'i:1, j:1', 'p 2i, q 3j+1, r 2i-j+5', 'q+r', 'p+q', 'p, q+r', 'p+q']
+>>> replies("loop i 1\nplace p 2i\nplace q 3\ntouch p q\ntest p q\nfrom i p q\ntill i\ndrop loop i\nbound k 3\ntouch p p\ndrop place p\ndrop loop i\nplaces\ndeeds\nundo\nundo\nloops")
+['done', 'done', 'done', 'no', 'no', '-', '20', 'refused Used', 'refused NoLoop', 'no', 'done', 'done', 'q 3', '5', 'done', 'done', 'i:1']
+>>> replies("pairs\napart\nloops\nundo\ntouch a b\nplace a -7\nplace b -7\npairs\ntouch a a\nplace a 0"), replies("")
+(['-', '-', '-', 'refused NothingDone', 'refused NoPlace', 'done', 'done', 'a+b', 'no', 'refused Known'], [])
+>>> is_request("bound i 20"), is_request("bound i 21"), is_request("place p 21i"), is_request("place p -20i+9"), is_request("from i p p"), is_request("drop i"), is_request("loop  i 1")
+(True, False, False, True, False, False, False)
+>>> replies("loops\nlook\nloop i 0")
+raises BadLine(number=1)
+"""
+
 
 class Examples(unittest.TestCase):
     def check(self, text, many):
@@ -187,6 +263,18 @@ class Examples(unittest.TestCase):
 
     def test_point_11(self):
         self.check(POINT_11, 10)
+
+    def test_point_12(self):
+        self.check(POINT_12, 6)
+
+    def test_point_13(self):
+        self.check(POINT_13, 12)
+
+    def test_point_14(self):
+        self.check(POINT_14, 10)
+
+    def test_point_15(self):
+        self.check(POINT_15, 5)
 
     def test_readme(self):
         path = os.path.join(os.path.dirname(os.path.dirname(os.path.abspath(__file__))), "README.md")

@@ -17,7 +17,10 @@ any all divmod Exception ValueError TypeError KeyError IndexError LookupError Ze
 OverflowError RuntimeError NotImplementedError""".split()
 METHODS = """append clear copy count endswith extend find get index insert isalnum isalpha isdigit islower isspace
 isupper items join keys ljust lower lstrip partition pop remove replace reverse rfind rjust rpartition rsplit rstrip
-setdefault split splitlines startswith strip update upper values zfill bit_length add discard __init__""".split()
+setdefault split splitlines startswith strip update upper values zfill bit_length add discard __init__
+removeprefix removesuffix""".split()
+# Methods that no call names.
+UNDERSCORED = ("__init__", "__len__", "__eq__")
 FROM_OUTSIDE = {"math": ("gcd", "lcm", "isqrt", "comb"), "heapq": ("heappush", "heappop"),
                 "itertools": ("combinations",)}
 
@@ -123,11 +126,13 @@ class Form(unittest.TestCase):
     def test_names(self):
         for name, tree in trees():
             taken = set()
+            methods = []
             for node in tree.body:
                 if isinstance(node, ast.ImportFrom):
                     taken.update(one.name for one in node.names)
                 if isinstance(node, ast.ClassDef):
                     taken.add(node.name)
+                    methods += [one for one in node.body if isinstance(one, ast.FunctionDef)]
             for node in ast.walk(tree):
                 if isinstance(node, ast.Name) and isinstance(node.ctx, ast.Load) and hasattr(builtins, node.id):
                     self.assertIn(node.id, BUILTINS, (name, node.lineno))
@@ -139,14 +144,16 @@ class Form(unittest.TestCase):
                         continue
                     self.assertFalse(hasattr(builtins, bound), (name, node.lineno, bound))
                     self.assertFalse(bound.startswith("__"), (name, node.lineno, bound))
-                    self.assertNotIn(bound, taken, (name, node.lineno))
+                    # A method may be called as what its file imports: the one is always behind a dot.
+                    if node not in methods:
+                        self.assertNotIn(bound, taken, (name, node.lineno))
 
     def bound_by(self, node):
         if isinstance(node, ast.Name) and isinstance(node.ctx, ast.Store):
             return [node.id]
         if isinstance(node, ast.arg):
             return [node.arg]
-        if isinstance(node, ast.FunctionDef) and node.name != "__init__":
+        if isinstance(node, ast.FunctionDef) and node.name not in UNDERSCORED:
             return [node.name]
         return []
 
@@ -168,9 +175,19 @@ class Form(unittest.TestCase):
     def test_everything_has_a_docstring(self):
         for name, tree in trees():
             self.assertIsNotNone(ast.get_docstring(tree), name)
-            for node in tree.body:
-                if isinstance(node, (ast.FunctionDef, ast.ClassDef)):
+            for node in ast.walk(tree):
+                if isinstance(node, (ast.FunctionDef, ast.ClassDef)) and getattr(node, "name", "") != "__init__":
                     self.assertIsNotNone(ast.get_docstring(node), (name, node.name))
+
+    def test_no_method_and_no_attribute_share_a_name(self):
+        for name, tree in trees():
+            for node in tree.body:
+                if isinstance(node, ast.ClassDef):
+                    methods = [one.name for one in node.body if isinstance(one, ast.FunctionDef)]
+                    self.assertEqual(len(set(methods)), len(methods), (name, node.name))
+                    for one in ast.walk(node):
+                        if isinstance(one, ast.Attribute) and isinstance(one.ctx, ast.Store):
+                            self.assertNotIn(one.attr, methods, (name, node.name))
 
 
 if __name__ == "__main__":
